@@ -1,0 +1,1 @@
+"""Modehand: an editor that is played like an instrument."""

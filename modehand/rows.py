@@ -1,0 +1,59 @@
+"""Places, rows and columns of a text (points 2 and 3 of the document)."""
+
+from modehand.errors import NoPlace, NoRow
+
+
+# Python counts True and False among the ints; the document does not.
+def is_whole(value):
+    return isinstance(value, int) and not isinstance(value, bool)
+
+
+def is_place(text, place):
+    return is_whole(place) and 0 <= place <= len(text)
+
+
+def is_row(text, row):
+    return is_whole(row) and 0 <= row < row_count(text)
+
+
+# The refusals don't show the number: Python won't write one of many thousand figures.
+def check_place(text, place):
+    if not is_place(text, place):
+        raise NoPlace("no place of the text")
+
+
+def check_row(text, row):
+    if not is_row(text, row):
+        raise NoRow("no row of the text")
+
+
+def row_count(text):
+    return text.count("\n") + 1
+
+
+def row_of(text, place):
+    check_place(text, place)
+    return text[:place].count("\n")
+
+
+def column_of(text, place):
+    check_place(text, place)
+    # Where no line feed stands ahead, rfind tells -1, and the row begins at 0.
+    return place - (text[:place].rfind("\n") + 1)
+
+
+def begin_of(text, row):
+    check_row(text, row)
+    begin = 0
+    for signs in text.split("\n")[:row]:
+        begin = begin + len(signs) + 1
+    return begin
+
+
+def end_of(text, row):
+    begin = begin_of(text, row)
+    return begin + len(text.split("\n")[row])
+
+
+def place_of(text, row, column):
+    return min(begin_of(text, row) + column, end_of(text, row))

@@ -1,0 +1,58 @@
+"""What several files of tests share: texts to ask about, and what a refusal must be."""
+
+import itertools
+
+from modehand import errors
+
+REFUSALS = (
+    errors.NoPlace, errors.NoRow, errors.NoFit, errors.NoState, errors.NoPhrase, errors.NoPattern,
+    errors.NoLine, errors.TooLong, errors.NoWords, errors.NoDeed, errors.NoName,
+)
+
+SIGNS = "".join(chr(code) for code in range(ord(" "), ord("}") + 1) if chr(code) != "%")
+
+# More than Python would write in figures: a refusal must not fail at showing it.
+VERY_MUCH = (1000, 10 ** 9, 10 ** 30, 10 ** 5000)
+
+
+def small_texts(most, signs="a\n"):
+    """Every text of these signs with at most so many of them."""
+    for length in range(most + 1):
+        for row in itertools.product(signs, repeat=length):
+            yield "".join(row)
+
+
+def long_texts():
+    """Texts of all signs, of up to 600 signs, with rows of many lengths."""
+    signs = SIGNS * 7
+    yield signs[:599]
+    yield signs[:600]
+    yield "\n" * 600
+    yield "\n" + signs[:598] + "\n"
+    yield "x" * 300 + "\n" + "y" * 299
+    rows = [signs[number:number + number * 7 % 23] for number in range(70)]
+    yield "\n".join(rows)[:600]
+
+
+def wrong_numbers(least, greatest):
+    """Whole numbers outside these bounds, by one and by very much."""
+    near = [least - 1, least - 2, greatest + 1, greatest + 2]
+    return near + [-much for much in VERY_MUCH] + list(VERY_MUCH)
+
+
+class Refusing:
+    """For a TestCase: asks that a call is refused with just this class."""
+
+    def assert_refused(self, refusal, asked, *handed):
+        with self.assertRaises(ValueError) as caught:
+            asked(*handed)
+        told = caught.exception
+        self.assertIs(type(told), refusal)
+        self.assertIsInstance(told, errors.ModeError)
+        for other in REFUSALS:
+            self.assertEqual(isinstance(told, other), other is refusal)
+        return told
+
+    def assert_whole(self, value):
+        """True and False are equal to 1 and 0, but no whole numbers."""
+        self.assertIs(type(value), int)
