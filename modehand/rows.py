@@ -55,5 +55,10 @@ def end_of(text, row):
     return begin + len(text.split("\n")[row])
 
 
+# The last row has no line feed to stand behind.
+def behind_of(text, row):
+    return min(end_of(text, row) + 1, len(text))
+
+
 def place_of(text, row, column):
     return min(begin_of(text, row) + column, end_of(text, row))

@@ -1,6 +1,8 @@
 """What several files of tests share: texts to ask about, and what a refusal must be."""
 
 import itertools
+import random
+import re
 
 from modehand import errors
 
@@ -32,6 +34,49 @@ def long_texts():
     yield "x" * 300 + "\n" + "y" * 299
     rows = [signs[number:number + number * 7 % 23] for number in range(70)]
     yield "\n".join(rows)[:600]
+
+
+def mixed_texts():
+    """Texts of up to 600 signs with words, figures, brackets, quotes, blanks and rows, the same in each run."""
+    chance = random.Random(5)
+    kinds = ("ab1 \n", "ab1 Z9.,\n\n", "()[]{}a \n", "()()a", "\"'a \n", "ab1 ()[]{}\"\n", SIGNS + "\n" * 9)
+    for number, kind in enumerate(kinds * 3):
+        length = (chance.randrange(10, 40), chance.randrange(40, 120), 600)[number // len(kinds)]
+        yield "".join(chance.choice(kind) for sign in range(length))
+
+
+def by_walking(text):
+    """For each place its row and column, and for each row its begin and end, sign by sign."""
+    places = [(0, 0)]
+    bounds = [[0, 0]]
+    for place, sign in enumerate(text, start=1):
+        row, column = places[-1]
+        if sign == "\n":
+            places.append((row + 1, 0))
+            bounds.append([place, place])
+        else:
+            places.append((row, column + 1))
+            bounds[-1][1] = place
+    return places, bounds
+
+
+def words_of(text):
+    """The begin and the end of each word."""
+    return [found.span() for found in re.finditer("[A-Za-z0-9]+", text)]
+
+
+def partners_of(text):
+    """For each bracket that has one its partner, as point 10 tells it."""
+    found = {}
+    for opening, closing in ("()", "[]", "{}"):
+        for low in range(len(text)):
+            for high in range(low + 1, len(text) if text[low] == opening else 0):
+                between = text[low + 1:high]
+                if text[high] == closing and between.count(opening) == between.count(closing):
+                    found[low] = high
+                    found[high] = low
+                    break
+    return found
 
 
 def wrong_numbers(least, greatest):

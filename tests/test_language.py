@@ -30,6 +30,10 @@ DUNDERS = ("__init__", "__eq__", "__repr__", "__str__", "__len__")
 WORDS_OUT = """type typing typing_extensions enum Enum IntEnum StrEnum Flag IntFlag Generic Protocol ABC ABCMeta
     namedtuple NamedTuple TypedDict TYPE_CHECKING abstractmethod""".split()
 PIECES_OUT = ("dataclass", "overload", "contextmanager")
+WALKED = ("zip", "enumerate", "reversed", "range")
+WALKED_METHODS = ("items", "keys", "values")
+WALKERS = ("list", "tuple", "dict", "sorted", "sum", "any", "all", "enumerate", "zip", "min", "max")
+CHANGES = ("append", "clear", "extend", "insert", "pop", "remove", "reverse", "setdefault", "update")
 NAMES_OUT = ("register", "mro", "elements", "open", "input", "version_info", "with_traceback", "add_note", "format")
 
 
@@ -42,7 +46,7 @@ def faults(source):
         if node is docstring and isinstance(node, ast.Expr):
             continue
         told += [f"line {getattr(node, 'lineno', 0)}: {fault}" for fault in node_faults(node)]
-    return told + name_faults(tree)
+    return told + name_faults(tree) + kept_faults(tree) + walk_faults(tree) + escape_faults(source)
 
 
 def sign_faults(source):
@@ -182,6 +186,87 @@ def name_faults(tree):
     return told
 
 
+def top_values(tree):
+    """Each name that the file's top gives a value, with this value."""
+    return [(node.targets[0].id, node.value) for node in tree.body if isinstance(node, ast.Assign)]
+
+
+def kept_faults(tree):
+    """Rules on what stands at a file's top: bound once, flat, only read, and no local called like it."""
+    told = []
+    defined = [node.name for node in tree.body if isinstance(node, (ast.FunctionDef, ast.ClassDef))]
+    classes = [node.name for node in tree.body if isinstance(node, ast.ClassDef)]
+    drawn = [alias.name for node in tree.body if isinstance(node, ast.ImportFrom) for alias in node.names]
+    bound = defined + drawn + [name for name, value in top_values(tree)]
+    told += [f"L15: {name} is bound more than once" for name in set(bound) if bound.count(name) > 1]
+    for name, value in top_values(tree):
+        within = [node for node in ast.walk(value) if node is not value]
+        if isinstance(value, (ast.List, ast.Dict)) and any(isinstance(node, (ast.List, ast.Dict)) for node in within):
+            told.append(f"L15: {name} holds a list or a dict")
+    for local in [node for function in ast.walk(tree) if isinstance(function, ast.FunctionDef) for node in
+                  ast.walk(function)]:
+        name = local.arg if isinstance(local, ast.arg) else getattr(local, "id", None)
+        stored = isinstance(local, ast.arg) or isinstance(getattr(local, "ctx", None), ast.Store)
+        if stored and name in drawn + classes:
+            told.append(f"line {local.lineno}: L15: {name} is called like an import or a class")
+    return told + use_faults(tree)
+
+
+def use_faults(tree):
+    """A list or dict of a file's top is read by an index, a walk, in, get and their like alone."""
+    told = []
+    kept = [name for name, value in top_values(tree) if isinstance(value, (ast.List, ast.Dict))]
+    right = set()
+    for node in ast.walk(tree):
+        if isinstance(node, ast.Subscript) and isinstance(node.ctx, ast.Load):
+            right.add(node.value)
+        if isinstance(node, ast.Compare):
+            right.update(node.comparators)
+        if isinstance(node, (ast.For, ast.comprehension)):
+            right.add(node.iter)
+        if isinstance(node, ast.Call) and isinstance(node.func, ast.Name) and node.func.id in OWN_NAMES:
+            right.update(node.args)
+        if isinstance(node, ast.Call) and isinstance(node.func, ast.Attribute) and node.func.attr not in CHANGES:
+            right.add(node.func.value)
+    for node in ast.walk(tree):
+        if isinstance(node, ast.Name) and node.id in kept and isinstance(node.ctx, ast.Load) and node not in right:
+            told.append(f"line {node.lineno}: L15: {node.id} is not only read")
+    return told
+
+
+def is_walk(node):
+    if not isinstance(node, ast.Call):
+        return False
+    if isinstance(node.func, ast.Name):
+        return node.func.id in WALKED
+    return isinstance(node.func, ast.Attribute) and node.func.attr in WALKED_METHODS
+
+
+def walk_faults(tree):
+    right = set()
+    called = set()
+    for node in ast.walk(tree):
+        if isinstance(node, (ast.For, ast.comprehension)):
+            right.add(node.iter)
+        if isinstance(node, ast.Call):
+            called.add(node.func)
+            walker = isinstance(node.func, ast.Name) and node.func.id in WALKERS
+            joined = isinstance(node.func, ast.Attribute) and node.func.attr == "join"
+            right.update(node.args if walker or joined else [])
+    told = []
+    for node in ast.walk(tree):
+        if is_walk(node) and node not in right:
+            told.append(f"line {node.lineno}: L23: not walked on the spot")
+        if isinstance(node, ast.Name) and node.id in WALKED + ("len", "sorted") and node not in called:
+            told.append(f"line {node.lineno}: L22: {node.id} is not called")
+    return told
+
+
+def escape_faults(source):
+    rows = re.findall(r"\\(.)", source, re.DOTALL)
+    return [f"L27: the escape {sign!r}" for sign in rows if sign not in "nt\\'\""]
+
+
 def drawn_from(tree):
     return [(node.module, alias.name) for node in tree.body if isinstance(node, ast.ImportFrom) for alias in node.names]
 
@@ -231,10 +316,30 @@ class Language(unittest.TestCase):
             ("L15", "def asked(next):\n    return next\n"), ("L17", "# of this type\n"),
             ("L20", "def asked(one):\n    return one is one + 1\n"),
             ("L25", "def asked(one):\n    return one.title()\n"),
-            ("L27", "TEXT = '%'\n"),
+            ("L27", "TEXT = '%'\n"), ("L27", "TEXT = '\\x41'\n"),
+            ("L15", "ONE = 1\nONE = 2\n"), ("L15", "MANY = [1, [2]]\n"), ("L15", "MANY = {1: {2: 3}}\n"),
+            ("L15", "from modehand.rows import row_of\ndef asked(row_of):\n    return row_of\n"),
+            ("L15", "class One:\n    pass\ndef asked():\n    One = 1\n    return One\n"),
+            ("L15", "MANY = [1]\ndef asked():\n    return MANY\n"),
+            ("L15", "MANY = [1]\ndef asked():\n    MANY.append(2)\n"),
+            ("L15", "MANY = [1]\ndef asked():\n    MANY[0] = 2\n"),
+            ("L22", "def asked(many):\n    tell = len\n    return tell(many)\n"),
+            ("L23", "def asked(many):\n    rows = range(3)\n    return [row for row in rows]\n"),
+            ("L23", "def asked(many):\n    return many.items()\n"),
         ):
             with self.subTest(source):
                 self.assertIn(rule + ":", " ".join(faults(source)))
+
+    def test_kept_rules_are_no_faults(self):
+        for source in (
+            "MANY = {1: (2, 3)}\ndef asked(one):\n    return MANY[one] if one in MANY else MANY.get(2)\n",
+            "MANY = [1]\ndef asked():\n    return [one for one in MANY] + list(MANY)\n",
+            "def asked(many):\n    for one, other in enumerate(many):\n        asked(other)\n",
+            "def asked(many):\n    return list(range(3)) + sorted(many.items())\n",
+            "TEXT = '\\n\\\\\\''\n",
+        ):
+            with self.subTest(source):
+                self.assertEqual(faults(source), [])
 
 
 if __name__ == "__main__":

@@ -1,24 +1,9 @@
 import itertools
 import unittest
 
-from helper import Refusing, long_texts, small_texts, wrong_numbers
+from helper import Refusing, by_walking, long_texts, small_texts, wrong_numbers
 from modehand.errors import NoPlace, NoRow
 from modehand.rows import begin_of, column_of, end_of, place_of, row_count, row_of
-
-
-def by_walking(text):
-    """For each place its row and column, and for each row its begin and end, sign by sign."""
-    places = [(0, 0)]
-    bounds = [[0, 0]]
-    for place, sign in enumerate(text, start=1):
-        row, column = places[-1]
-        if sign == "\n":
-            places.append((row + 1, 0))
-            bounds.append([place, place])
-        else:
-            places.append((row, column + 1))
-            bounds[-1][1] = place
-    return places, bounds
 
 
 def asked_texts():
