@@ -79,6 +79,16 @@ def partners_of(text):
     return found
 
 
+class Walked:
+    """What the document tells of a text's rows, words and brackets, asked without the program."""
+
+    def __init__(self, text):
+        self.text = text
+        self.places, self.bounds = by_walking(text)
+        self.words = words_of(text)
+        self.partners = partners_of(text)
+
+
 def wrong_numbers(least, greatest):
     """Whole numbers outside these bounds, by one and by very much."""
     near = [least - 1, least - 2, greatest + 1, greatest + 2]

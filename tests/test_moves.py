@@ -1,7 +1,7 @@
 import itertools
 import unittest
 
-from helper import SIGNS, by_walking, long_texts, mixed_texts, partners_of, small_texts, words_of
+from helper import SIGNS, Walked, long_texts, mixed_texts, small_texts
 from modehand.moves import by_rows, gone
 
 ONE_KEY = ("h", "l", "j", "k", "b", "e", "w", "v", "o", "g", "z", "p")
@@ -9,14 +9,8 @@ SOME_MOVES = ONE_KEY + ("fa", "f ", "f(", "f\n", "ta", "t ", "t)", "t\n", "ma", 
 PASSED_OVER = ("b", "e", "z", "ma")
 
 
-class Told:
+class Told(Walked):
     """Where the moves lead in a text, as points 9 to 12 tell it."""
-
-    def __init__(self, text):
-        self.text = text
-        self.places, self.bounds = by_walking(text)
-        self.words = words_of(text)
-        self.partners = partners_of(text)
 
     def gone(self, keys, place, count=None, marks=None):
         if keys == "g":
