@@ -2,6 +2,8 @@
 
 from modehand.errors import NoPlace, NoRow
 
+MOST_SIGNS = 600
+
 
 # Python counts True and False among the ints; the document does not.
 def is_whole(value):
@@ -44,15 +46,14 @@ def column_of(text, place):
 
 def begin_of(text, row):
     check_row(text, row)
-    begin = 0
-    for signs in text.split("\n")[:row]:
-        begin = begin + len(signs) + 1
-    return begin
+    # Split at so many line feeds, what is left begins where the row does.
+    return len(text) - len(text.split("\n", row)[row])
 
 
 def end_of(text, row):
-    begin = begin_of(text, row)
-    return begin + len(text.split("\n")[row])
+    end = text.find("\n", begin_of(text, row))
+    # Where no line feed stands behind, find tells -1, and the row ends with the text.
+    return len(text) if end < 0 else end
 
 
 # The last row has no line feed to stand behind.

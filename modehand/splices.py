@@ -1,7 +1,7 @@
-"""Splices: tuples (at, out, put) that lead from text to text (points 5 to 7)."""
+"""Splices: tuples (at, out, put) that lead from text to text (points 5 to 7, 18 and 20)."""
 
 from modehand.errors import NoFit
-from modehand.rows import is_place
+from modehand.rows import MOST_SIGNS, is_place
 
 
 # The place is asked first: Python's slices take places below 0 and beyond the end, too.
@@ -49,3 +49,12 @@ def all_shifted(place, splices):
 
 def way_back(splices):
     return [turned(splice) for splice in reversed(splices)]
+
+
+def changing(splices):
+    return [splice for splice in splices if splice[1] != splice[2]]
+
+
+# On the way the text may be longer: only what it comes to behind all of them counts.
+def too_long(text, splices):
+    return len(text) + sum([len(splice[2]) - len(splice[1]) for splice in splices]) > MOST_SIGNS

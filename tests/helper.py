@@ -79,6 +79,25 @@ def partners_of(text):
     return found
 
 
+def pieces_of(text, one):
+    """The pieces of a stretch, as point 16 tells them."""
+    low, high, kind = one
+    if kind != "block":
+        return [(low, high)]
+    places, bounds = by_walking(text)
+    columns = sorted((places[low][1], places[high][1]))
+    rows = bounds[places[low][0]:places[high][0] + 1]
+    return [tuple(min(begin + column, end) for column in columns) for begin, end in rows]
+
+
+def stretches(text, step=1):
+    """Stretches of all three kinds between the places of a text, or between some of them."""
+    places = sorted(set(range(0, len(text) + 1, step)) | {len(text)})
+    for low, high in itertools.combinations_with_replacement(places, 2):
+        for kind in ("signs", "rows", "block"):
+            yield (low, high, kind)
+
+
 class Walked:
     """What the document tells of a text's rows, words and brackets, asked without the program."""
 
@@ -96,7 +115,7 @@ def wrong_numbers(least, greatest):
 
 
 class Refusing:
-    """For a TestCase: asks that a call is refused with just this class."""
+    """For a TestCase: asks that a call is refused with just one class, that splices lead on, and the like."""
 
     def assert_refused(self, refusal, asked, *handed):
         with self.assertRaises(ValueError) as caught:
@@ -107,6 +126,19 @@ class Refusing:
         for other in REFUSALS:
             self.assertEqual(isinstance(told, other), other is refusal)
         return told
+
+    def assert_leads(self, text, splices, wanted):
+        """Splices that fit, one by one, lead from text to text; each changes something."""
+        self.assertIs(type(splices), list)
+        for splice in splices:
+            self.assertIs(type(splice), tuple)
+            at, out, put = splice
+            self.assert_whole(at)
+            self.assertTrue(0 <= at <= len(text))
+            self.assertEqual(text[at:at + len(out)], out)
+            self.assertNotEqual(out, put)
+            text = text[:at] + put + text[at + len(out):]
+        self.assertEqual(text, wanted)
 
     def assert_whole(self, value):
         """True and False are equal to 1 and 0, but no whole numbers."""

@@ -17,6 +17,7 @@ EXPRESSIONS = (
     ast.IfExp, ast.Call, ast.Attribute, ast.Subscript, ast.Slice, ast.ListComp, ast.JoinedStr,
     ast.FormattedValue, ast.Name, ast.Lambda,
 )
+PLAIN = (ast.Constant, ast.List, ast.Tuple, ast.Dict, ast.Name, ast.UnaryOp, ast.USub, ast.expr_context)
 TOP = (ast.ImportFrom, ast.FunctionDef, ast.ClassDef, ast.Assign)
 OWN_NAMES = """len range enumerate zip min max sum abs sorted reversed int str bool list tuple dict set frozenset
     isinstance ord repr any all divmod Exception ValueError TypeError KeyError IndexError LookupError
@@ -34,6 +35,7 @@ WALKED = ("zip", "enumerate", "reversed", "range")
 WALKED_METHODS = ("items", "keys", "values")
 WALKERS = ("list", "tuple", "dict", "sorted", "sum", "any", "all", "enumerate", "zip", "min", "max")
 CHANGES = ("append", "clear", "extend", "insert", "pop", "remove", "reverse", "setdefault", "update")
+VALUES = "count index title find get join lower upper split strip copy add".split()
 NAMES_OUT = ("register", "mro", "elements", "open", "input", "version_info", "with_traceback", "add_note", "format")
 
 
@@ -201,6 +203,9 @@ def kept_faults(tree):
     told += [f"L15: {name} is bound more than once" for name in set(bound) if bound.count(name) > 1]
     for name, value in top_values(tree):
         within = [node for node in ast.walk(value) if node is not value]
+        names = [node.id for node in ast.walk(value) if isinstance(node, ast.Name)]
+        if not all(isinstance(node, PLAIN) for node in ast.walk(value)) or not set(names) <= set(defined):
+            told.append(f"L3: {name} is given no plain value")
         if isinstance(value, (ast.List, ast.Dict)) and any(isinstance(node, (ast.List, ast.Dict)) for node in within):
             told.append(f"L15: {name} holds a list or a dict")
     for local in [node for function in ast.walk(tree) if isinstance(function, ast.FunctionDef) for node in
@@ -267,6 +272,26 @@ def escape_faults(source):
     return [f"L27: the escape {sign!r}" for sign in rows if sign not in "nt\\'\""]
 
 
+def methods_of(tree):
+    classes = [node for node in ast.walk(tree) if isinstance(node, ast.ClassDef)]
+    return [node.name for one in classes for node in one.body if isinstance(node, ast.FunctionDef)]
+
+
+def values_of(tree):
+    """The names under which objects keep something."""
+    return [node.attr for node in ast.walk(tree) if isinstance(node, ast.Attribute) and isinstance(node.ctx, ast.Store)]
+
+
+def value_faults(trees):
+    """Rules on the names of methods and values, over all files."""
+    methods = [name for tree in trees for name in methods_of(tree)]
+    values = [name for tree in trees for name in values_of(tree)]
+    told = [f"L18: {name} is a method and a value" for name in set(values) & set(methods)]
+    told += [f"L26: the value {name}" for name in values if name in PYTHONS_METHODS and name not in VALUES]
+    free = METHODS + list(DUNDERS)
+    return told + [f"L26: the method {name}" for name in methods if name in PYTHONS_METHODS and name not in free]
+
+
 def drawn_from(tree):
     return [(node.module, alias.name) for node in tree.body if isinstance(node, ast.ImportFrom) for alias in node.names]
 
@@ -286,6 +311,19 @@ class Language(unittest.TestCase):
         for path in sorted(PACKAGE.glob("*.py")):
             with self.subTest(path.name):
                 self.assertEqual(faults(path.read_text()), [])
+
+    def test_no_name_of_methods_and_values_breaks_a_rule(self):
+        self.assertEqual(value_faults(list(self.trees().values())), [])
+
+    def test_broken_rules_on_methods_and_values_are_seen(self):
+        for rule, source in (
+            ("L18", "class One:\n    def __init__(self):\n        self.many = 1\n"),
+            ("L26", "class One:\n    def __init__(self):\n        self.items = 1\n"),
+            ("L26", "class One:\n    def title(self):\n        return 1\n"),
+        ):
+            with self.subTest(source):
+                other = "class Other:\n    def many(self):\n        return 1\n"
+                self.assertIn(rule + ":", " ".join(value_faults([ast.parse(source), ast.parse(other)])))
 
     def test_names_come_from_the_file_that_defines_them(self):
         trees = self.trees()
@@ -317,6 +355,7 @@ class Language(unittest.TestCase):
             ("L20", "def asked(one):\n    return one is one + 1\n"),
             ("L25", "def asked(one):\n    return one.title()\n"),
             ("L27", "TEXT = '%'\n"), ("L27", "TEXT = '\\x41'\n"),
+            ("L3", "ONE = 1\nTWO = ONE + 1\n"), ("L3", "ONE = 1\nMANY = [ONE]\n"), ("L3", "ONE = len('a')\n"),
             ("L15", "ONE = 1\nONE = 2\n"), ("L15", "MANY = [1, [2]]\n"), ("L15", "MANY = {1: {2: 3}}\n"),
             ("L15", "from modehand.rows import row_of\ndef asked(row_of):\n    return row_of\n"),
             ("L15", "class One:\n    pass\ndef asked():\n    One = 1\n    return One\n"),

@@ -1,17 +1,9 @@
 import itertools
 import unittest
 
-from helper import by_walking, long_texts, mixed_texts, small_texts
+from helper import long_texts, mixed_texts, pieces_of, small_texts
 from modehand.pieces import pieces
 from modehand.things import move_stretch, stretch
-
-
-def told_block(text, low, high):
-    """The pieces of a block, as point 16 tells them."""
-    places, bounds = by_walking(text)
-    columns = sorted((places[low][1], places[high][1]))
-    rows = bounds[places[low][0]:places[high][0] + 1]
-    return [tuple(min(begin + column, end) for column in columns) for begin, end in rows]
 
 
 class OnePiece(unittest.TestCase):
@@ -69,11 +61,11 @@ class Blocks(unittest.TestCase):
         for text in itertools.chain(small_texts(7), small_texts(4, "a \n")):
             for low in range(len(text) + 1):
                 for high in range(low, len(text) + 1):
-                    self.assertEqual(pieces(text, (low, high, "block")), told_block(text, low, high))
+                    self.assertEqual(pieces(text, (low, high, "block")), pieces_of(text, (low, high, "block")))
         for text in itertools.chain(mixed_texts(), long_texts()):
             for low in range(0, len(text) + 1, 41):
                 for high in range(low, len(text) + 1, 37):
-                    self.assertEqual(pieces(text, (low, high, "block")), told_block(text, low, high))
+                    self.assertEqual(pieces(text, (low, high, "block")), pieces_of(text, (low, high, "block")))
 
 
 class Kinds(unittest.TestCase):
